@@ -67,12 +67,12 @@ func TestWays(t *testing.T) {
 }
 
 func TestWaysOfNoTree(t *testing.T) {
-	l := ups(3, -5, 3, 1, 99, -5)
+	l := ups(3, -2, 3, 1, 99, -2)
 	for _, c := range []struct {
 		i              int
 		kids, up, next []int
 	}{
-		{-5, nil, nil, nil}, {-1, nil, nil, nil}, {0, nil, []int{3}, []int{2}}, {1, []int{3}, nil, []int{5}}, {2, nil, []int{3}, nil},
+		{-2, nil, nil, nil}, {-1, nil, nil, nil}, {0, nil, []int{3}, []int{2}}, {1, []int{3}, nil, []int{5}}, {2, nil, []int{3}, nil},
 		{3, []int{0, 2}, []int{1}, nil}, {4, nil, []int{99}, nil}, {99, []int{4}, nil, nil},
 	} {
 		if got := Kids(l, c.i); !slices.Equal(got, c.kids) {
@@ -104,6 +104,9 @@ func TestText(t *testing.T) {
 		if got := Text([]api.Leaf{{}, {From: c.from, To: c.to}}, "abc", 1); got != c.want {
 			t.Errorf("%d to %d: %q", c.from, c.to, got)
 		}
+	}
+	if got := Text([]api.Leaf{{To: 2}}, "abc", 0); got != "ab" {
+		t.Errorf("of the first node: %q", got)
 	}
 	for _, i := range []int{-1, 1, math.MaxInt, math.MinInt} {
 		if got := Text([]api.Leaf{{To: 3}}, "abc", i); got != "" {

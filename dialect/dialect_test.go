@@ -65,6 +65,8 @@ func TestParseFaults(t *testing.T) {
 		{"modules m;", api.ErrForm, 0},
 		{"module m; import ;", api.ErrForm, 17},
 		{"module m; import module;", api.ErrForm, 17},
+		{"module m; import water;", api.ErrForm, 17},
+		{"module m; import import n;", api.ErrForm, 17},
 		{"module m; import n", api.ErrForm, 18},
 		{"module m; import m;", api.ErrTwice, 17},
 		{"module m; import m", api.ErrTwice, 17},

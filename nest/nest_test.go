@@ -46,6 +46,15 @@ func TestNodesAsTheyCome(t *testing.T) {
 	holds(t, n, 5, leaf(4, "", 0, 2, -1), leaf(1, "a", 2, -5, -1), leaf(2, "b", 3, 8, 1), leaf(5, "", 3, 7, 2), leaf(4, "", 8, 9, 1), leaf(math.MinInt, "", math.MaxInt, math.MaxInt, -1))
 }
 
+func TestCloseOfTheFirst(t *testing.T) {
+	n := New()
+	n.Open(1, "a", 2)
+	if !n.Close(5) || n.Close(6) {
+		t.Error("one was open")
+	}
+	holds(t, n, -1, leaf(1, "a", 2, 5, -1))
+}
+
 // three makes a nest of an open a, in it a leaf, and an open b.
 func three() *Nest {
 	n := New()

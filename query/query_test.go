@@ -28,9 +28,10 @@ func TestParse(t *testing.T) {
 		`/*~"\n"`:            {{{Axis: 1, Has: "\n"}}},
 		`/*[1]`:              {{{Axis: 1, Nth: 1}}},
 		`/abcdefghijkl/Z_9`:  {{{Axis: 1, Name: "abcdefghijkl"}, {Axis: 1, Name: "Z_9"}}},
-		`/waters`:            {{{Axis: 1, Name: "waters"}}},
-		`//a//b/c`:           {{{Axis: 2, Name: "a"}, {Axis: 2, Name: "b"}, {Axis: 1, Name: "c"}}},
-		`/a|/a`:              {{{Axis: 1, Name: "a"}}, {{Axis: 1, Name: "a"}}},
+		`/azAZ09_`:           {{{Axis: 1, Name: "azAZ09_"}}}, `/zA`: {{{Axis: 1, Name: "zA"}}}, `/Za`: {{{Axis: 1, Name: "Za"}}}, `/Az`: {{{Axis: 1, Name: "Az"}}},
+		`/waters`:  {{{Axis: 1, Name: "waters"}}},
+		`//a//b/c`: {{{Axis: 2, Name: "a"}, {Axis: 2, Name: "b"}, {Axis: 1, Name: "c"}}},
+		`/a|/a`:    {{{Axis: 1, Name: "a"}}, {{Axis: 1, Name: "a"}}},
 	} {
 		q, f := Parse(s)
 		if !reflect.DeepEqual(q.Paths, want) || f != (api.Fault{}) {

@@ -111,6 +111,8 @@ func TestParseFaults(t *testing.T) {
 		`water::a`:              {Err: api.ErrForm, At: 0},
 		`x:`:                    {Err: api.ErrForm, At: 2},
 		`:a`:                    {Err: api.ErrForm, At: 0},
+		`"x":a`:                 {Err: api.ErrForm, At: 3},
+		`a .:a`:                 {Err: api.ErrForm, At: 3},
 		`&`:                     {Err: api.ErrForm, At: 1},
 		twelve + `(a)` + closed: {Err: api.ErrLarge, At: 12},
 		twelve + `(`:            {Err: api.ErrLarge, At: 12},
@@ -166,7 +168,7 @@ func TestRead(t *testing.T) {
 		}
 	}
 	l, _ = token.All("; " + strings.Repeat("(", 11) + "a" + strings.Repeat("?)", 11) + "?")
-	if _, _, f := Read(l, 1); f != (api.Fault{Err: api.ErrLarge, At: 2}) {
+	if e, behind, f := Read(l, 1); !syntax.Same(e, api.Expr{}) || behind != 0 || f != (api.Fault{Err: api.ErrLarge, At: 2}) {
 		t.Errorf("too deep: %v", f)
 	}
 	if _, _, f := Read(nil, 0); f != (api.Fault{Err: api.ErrArg}) {

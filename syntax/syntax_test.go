@@ -10,7 +10,7 @@ import (
 )
 
 func TestWord(t *testing.T) {
-	for _, s := range []string{"a", "Z", "a1", "a_", "zZ_09", "abcdefghijkl", "waters", "Water", "modul", "imports", "importe_1"} {
+	for _, s := range []string{"a", "Z", "A", "z", "azAZ09_", "a1", "a_", "zZ_09", "abcdefghijkl", "waters", "Water", "modul", "imports", "importe_1"} {
 		if !Word(s) {
 			t.Errorf("%q is a name", s)
 		}

@@ -48,6 +48,8 @@ func TestNext(t *testing.T) {
 		{" # c\n ab_9Z*", 0, name("ab_9Z", 6), 11},
 		{"abcd", 2, name("cd", 2), 4},
 		{"water", 0, name("water", 0), 5},
+		{"azAZ09_+", 0, name("azAZ09_", 0), 7},
+		{"zA", 0, name("zA", 0), 2}, {"Za", 0, name("Za", 0), 2}, {"Az", 0, name("Az", 0), 2},
 		{"abcdefghijkl", 0, name("abcdefghijkl", 0), 12},
 		{"a\"b\"", 1, text("b", 1), 4},
 		{`"\"#"x`, 0, text("\"#", 0), 5},
